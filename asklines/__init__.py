@@ -1,0 +1,1 @@
+"""Asklines: requests on a tree that form one line."""

@@ -1,0 +1,245 @@
+"""Samples and checks that several test files use."""
+
+import unittest
+
+LETTERS = "abcdefghijklmnopqrstuvwxyz"
+
+
+def doc_tree():
+    """The tree of the document's examples."""
+    return {"a": ["g", "p"], "b": ["p"], "g": ["a"], "p": ["a", "b"]}
+
+
+def name_at(k):
+    """A name of 1 to 8 letters, another one for each k from 0 to 103."""
+    return LETTERS[k * 7 % 26] * (k % 8 + 1)
+
+
+def tree_of(parents):
+    """The tree in which node k + 1 hangs on node parents[k]."""
+    tree = {name_at(k): [] for k in range(len(parents) + 1)}
+    for k, parent in enumerate(parents):
+        tree[name_at(k + 1)].append(name_at(parent))
+        tree[name_at(parent)].append(name_at(k + 1))
+    return {node: sorted(tree[node]) for node in tree}
+
+
+def numbers(start, count, below):
+    """Integers that look irregular and are the same in each run."""
+    found = []
+    for _ in range(count):
+        start = (start * 1103515245 + 12345) % 2 ** 31
+        found.append(start // 65536 % below)
+    return found
+
+
+def irregular_tree(start, nodes):
+    return tree_of([number % (k + 1) for k, number in enumerate(numbers(start, nodes - 1, 9973))])
+
+
+def path_tree(nodes):
+    return tree_of(list(range(nodes - 1)))
+
+
+def star_tree(nodes):
+    return tree_of([0] * (nodes - 1))
+
+
+def sample_trees():
+    """Trees of many shapes, those of 1, 2 and 40 nodes among them."""
+    return [
+        doc_tree(),
+        {"p": []},
+        {"abcdefgh": []},
+        {"a": ["zz"], "zz": ["a"]},
+        path_tree(3),
+        path_tree(40),
+        star_tree(40),
+        tree_of([k // 2 for k in range(39)]),
+        tree_of([k // 2 * 2 for k in range(30)]),
+        tree_of([0] * 19 + [19] * 20),
+        irregular_tree(1, 7),
+        irregular_tree(2, 23),
+        irregular_tree(3, 40),
+    ]
+
+
+def sample_lines(tree):
+    """Lines of the tree: of 1 entry, of some, of 400 entries."""
+    nodes = sorted(tree)
+    lines = [[nodes[0]], [nodes[-1]], [nodes[0]] * 2, nodes, nodes[::-1], nodes + nodes[::-1] + nodes]
+    for start, length in ((5, 2), (6, 7), (7, 60), (8, 400)):
+        lines.append([nodes[k] for k in numbers(start, length, len(nodes))])
+    return lines
+
+
+def filled_otherwise(tree):
+    """The same tree, its dict filled in three other orders."""
+    nodes = list(tree)
+    for order in (sorted(nodes), sorted(nodes)[::-1], nodes[len(nodes) // 2:] + nodes[:len(nodes) // 2]):
+        yield {node: list(tree[node]) for node in order}
+
+
+class Stubborn:
+    """A value that can't be compared, hashed or tested."""
+
+    def refuse(self, *rest):
+        raise RuntimeError("a value of no listed kind was asked")
+
+    __eq__ = __ne__ = __lt__ = __le__ = __gt__ = __ge__ = __hash__ = __bool__ = __len__ = __iter__ = refuse
+
+
+def nested(value, depth):
+    for k in range(depth):
+        value = ([value], (value,), {"a": value})[k % 3]
+    return value
+
+
+def odd_values():
+    """Values of many kinds: none is a name, a tree or a list of names."""
+    return [
+        None, True, False, 0, 1, -1, 40, 10 ** 30,
+        "", "A", "aB", "a1", "1", " ", "a ", " a", "a b", "a\n", "\na", "a\t", "a-b", "a_b", "abcdefghi",
+        "\u00e4", "\u0430", "\u00aa", "\uff41", "a\u0301", "\x00", "a\x00", "`", "{", "@", "[",
+        b"", b"a", b"p", bytes(3),
+        [], [[]], [None], [0, 1], [b"a"], [{}], [()], [["a"]], [("a",)], ["A"], ["a", ""], ["a", 1], [1, "a"],
+        (), (1,), ("a",), ("a", "p"), (("a",),), ([],), ({},), (None, "a"),
+        {}, {"A": []}, {"": []}, {"a": None}, {"a": ()}, {"a": {}}, {"a": "p"}, {"a": ""}, {"a": ["a"]},
+        {"a": ["p"]}, {"a": [[]]}, {"a": [None]}, {"a": [{}]}, {"a": [1]}, {1: []}, {None: []}, {True: [], 0: []},
+        {b"a": []}, {("a",): []}, {"a": [], 1: []}, {1: ["a"], "a": [1]}, {"a": 5, "b": ["a"]},
+        {"a": ["b"], "b": 5}, {"a": ["b"], "b": "a"}, {"a": ["b"], "b": {"a": 1}}, {"a": ["b"], "b": None},
+        set(), {"a"}, frozenset(), frozenset(["a"]), {"a": {"a"}},
+        nested(1, 20), nested([], 20), nested((), 20), nested("A", 20), {"a": nested([], 19)}, [nested(None, 19)],
+        object(), len, str, Stubborn(), [Stubborn()], ["a", Stubborn()], (Stubborn(),), {"a": Stubborn()},
+        {"a": [Stubborn()]}, {"a": ["b"], "b": Stubborn()}, {"a": ["b"], "b": [Stubborn()]},
+    ]
+
+
+def nearly_trees():
+    """Values that miss being a tree by one thing, each with what it is."""
+    loop = path_tree(5)
+    loop[name_at(0)] = sorted(loop[name_at(0)] + [name_at(4)])
+    loop[name_at(4)] = sorted(loop[name_at(4)] + [name_at(0)])
+    return [
+        ("41 nodes", path_tree(41)),
+        ("41 nodes in a star", star_tree(41)),
+        ("no node", {}),
+        ("missing on the later side", {"a": ["b"], "b": []}),
+        ("missing on the earlier side", {"a": [], "b": ["a"]}),
+        ("missing on one side, the number of ends as in a tree", {"a": ["b", "c"], "b": ["c"], "c": ["b"]}),
+        ("each list names another node", {"a": ["b"], "b": ["c"], "c": ["a"]}),
+        ("a neighbour that is no node", {"a": ["b", "p"], "b": ["a"]}),
+        ("the only neighbour is no node", {"a": ["b"]}),
+        ("its own neighbour", {"a": ["a"]}),
+        ("its own neighbour and another", {"a": ["a", "b"], "b": ["a"]}),
+        ("its own neighbour in place of an edge", {"a": ["a"], "b": ["b"]}),
+        ("a duplicate", {"a": ["b", "b"], "b": ["a"]}),
+        ("duplicates on both sides", {"a": ["b", "b"], "b": ["a", "a"]}),
+        ("a duplicate, the number of ends as in a tree", {"a": ["b", "b"], "b": ["a", "a"], "c": []}),
+        ("not ascending", {"a": ["p"], "b": ["p"], "p": ["b", "a"]}),
+        ("not ascending in the middle", {"a": ["p"], "b": ["p"], "c": ["p"], "d": ["p"], "p": ["a", "c", "b", "d"]}),
+        ("a tuple", {"a": ("p",), "p": ["a"]}),
+        ("a tuple on the later side", {"a": ["p"], "p": ("a",)}),
+        ("an empty tuple", {"a": ()}),
+        ("a string", {"a": "p", "p": "a"}),
+        ("a dict", {"a": {"p": 1}, "p": {"a": 1}}),
+        ("a set", {"a": {"p"}, "p": {"a"}}),
+        ("two parts", {"a": [], "b": []}),
+        ("two parts with edges", {"a": ["b"], "b": ["a"], "c": ["d"], "d": ["c"]}),
+        ("a cycle", {"a": ["b", "c"], "b": ["a", "c"], "c": ["a", "b"]}),
+        ("a cycle of five", loop),
+        ("a cycle and a part of its own", {"a": ["b", "c"], "b": ["a", "c"], "c": ["a", "b"], "d": []}),
+        ("a cycle beside a part with the least node", {"a": [], "b": ["c", "d"], "c": ["b", "d"], "d": ["b", "c"]}),
+        ("a capital letter", {"A": ["p"], "p": ["A"]}),
+        ("a name of no letter", {"": []}),
+        ("a name of 9 letters", {"abcdefghi": ["p"], "p": ["abcdefghi"]}),
+        ("a digit", {"a1": []}),
+        ("a newline", {"a\n": []}),
+        ("an integer as a node", {1: []}),
+        ("bytes as a node", {b"a": []}),
+        ("integers as neighbours", {1: [2], 2: [1]}),
+        ("a mixture of keys", {"a": ["p"], "p": ["a"], None: []}),
+        ("a list of pairs", [("a", ["p"]), ("p", ["a"])]),
+        ("a list of edges", [("a", "p")]),
+    ]
+
+
+def side_of(tree, node, neighbour):
+    """The nodes on the node's side of the edge to the neighbour, the edge taken away."""
+    side = [node]
+    for found in side:
+        for other in tree[found]:
+            if other not in side and (found, other) != (node, neighbour):
+                side.append(other)
+    return side
+
+
+def snapshot(value):
+    """What the value is throughout: kinds of values and orders of dicts included."""
+    if isinstance(value, dict):
+        return ("dict", [(snapshot(key), snapshot(value[key])) for key in value])
+    if isinstance(value, (list, tuple)):
+        return (type(value).__name__, [snapshot(item) for item in value])
+    if isinstance(value, (set, frozenset)):
+        return (type(value).__name__, sorted(repr(item) for item in value))
+    return (type(value).__name__, value)
+
+
+def containers(value):
+    """All lists and dicts in the value, itself included."""
+    found = [value] if isinstance(value, (list, dict)) else []
+    if isinstance(value, dict):
+        value = list(value) + list(value.values())
+    if isinstance(value, (list, tuple)):
+        for item in value:
+            found += containers(item)
+    return found
+
+
+def spoil(value):
+    """Change each list and dict in the value."""
+    for held in containers(value):
+        if isinstance(held, list):
+            held.append("spoilt")
+        else:
+            held["spoilt"] = "spoilt"
+
+
+class PromiseCase(unittest.TestCase):
+    """Tests whose calls are checked for what point 3 promises of each call."""
+
+    def told(self, function, *values):
+        """The result of a call, after the checks that hold for every call."""
+        before = snapshot(values)
+        result = function(*values)
+        again = function(*values)
+        self.assertEqual(snapshot(values), before, "an argument was changed")
+        self.assertEqual(snapshot(again), snapshot(result), "two equal calls differ")
+        made = containers(result) + containers(again)
+        self.assertEqual(len({id(held) for held in made}), len(made), "a list or dict appears twice")
+        given = {id(held) for held in containers(list(values))}
+        self.assertFalse(any(id(held) in given for held in made), "an argument's list or dict is returned")
+        for held in made:
+            if isinstance(held, dict):
+                self.assertEqual(list(held), sorted(held), "a dict is not filled in ascending order")
+        shown = snapshot(result)
+        spoil(again)
+        self.assertEqual(snapshot(function(*values)), shown, "a changed result has an effect")
+        self.assertEqual(snapshot(values), before, "a changed result changes an argument")
+        return result
+
+    def fails(self, error, function, *values):
+        """The error of a call, which is of this class itself; the arguments stay as they are."""
+        before = snapshot(values)
+        with self.assertRaises(error) as caught:
+            function(*values)
+        self.assertIs(type(caught.exception), error)
+        self.assertEqual(snapshot(values), before, "an argument was changed")
+        return caught.exception
+
+    def same_however_filled(self, function, tree, *rest):
+        """The result of a call, which is the same for each order in which the tree was filled."""
+        result = self.told(function, tree, *rest)
+        for other in filled_otherwise(tree):
+            self.assertEqual(snapshot(self.told(function, other, *rest)), snapshot(result))
+        return result
