@@ -164,6 +164,16 @@ def nearly_trees():
     ]
 
 
+def no_trees():
+    """Values that are no tree."""
+    return odd_values() + ["a", "p", ["a"], ["p"], ["a", "p"]] + [value for _, value in nearly_trees()]
+
+
+def no_nodes():
+    """Values that are no nodes of any sample tree, the name of no node among them."""
+    return odd_values() + ["x", "pq", "qqqqqqqq", ["a"], ["p"], ("p",), ("a", "p"), ("p", 0), doc_tree()]
+
+
 def side_of(tree, node, neighbour):
     """The nodes on the node's side of the edge to the neighbour, the edge taken away."""
     side = [node]
@@ -172,6 +182,151 @@ def side_of(tree, node, neighbour):
             if other not in side and (found, other) != (node, neighbour):
                 side.append(other)
     return side
+
+
+def slow_direction(tree, node, target):
+    """The direction by what is cut off when an edge is taken away."""
+    for neighbour in tree[node]:
+        if target in side_of(tree, neighbour, node):
+            return neighbour
+    return node
+
+
+def slow_view(tree, line, node):
+    towards = {other: slow_direction(tree, node, other) for other in tree}
+    steps = [towards[entry] for entry in line]
+    return [step for before, step in zip(steps, steps[1:]) if step == node or step != before]
+
+
+class SlowNet:
+    """A plain simulation of a net, step by step as points 8 to 13 tell it."""
+
+    def __init__(self, tree, holder):
+        self.tree = {node: list(tree[node]) for node in tree}
+        self.holder = holder
+        self.arrows = {node: slow_direction(tree, node, holder) for node in tree}
+        self.logs = {node: [] for node in tree}
+        self.requests = {node: [(node, 0)] if node == holder else [] for node in tree}
+        self.messages = []
+        self.pairs = []
+
+    def copied(self):
+        other = SlowNet({self.holder: []}, self.holder)
+        other.tree = {node: list(self.tree[node]) for node in self.tree}
+        other.arrows = dict(self.arrows)
+        other.logs = {node: list(self.logs[node]) for node in self.logs}
+        other.requests = {node: list(self.requests[node]) for node in self.requests}
+        other.messages = list(self.messages)
+        other.pairs = list(self.pairs)
+        return other
+
+    def ask(self, node):
+        earlier = self.requests[node]
+        new = (node, max([number for _, number in earlier], default=0) + 1)
+        if self.arrows[node] == node:
+            self.pairs.append((earlier[-1], new))
+        else:
+            self.messages.append((node, self.arrows[node], new))
+            self.arrows[node] = node
+        self.requests[node] = earlier + [new]
+        self.logs[node].append(node)
+        return new
+
+    def deliver(self, sender, receiver):
+        found = [message for message in self.messages if message[:2] == (sender, receiver)]
+        if len(found) != 1:
+            raise LookupError("not one message, but " + str(len(found)))
+        self.messages.remove(found[0])
+        self.logs[receiver].append(sender)
+        old = self.arrows[receiver]
+        self.arrows[receiver] = sender
+        if old == receiver:
+            self.pairs.append((self.requests[receiver][-1], found[0][2]))
+        else:
+            self.messages.append((receiver, old, found[0][2]))
+        return old == receiver
+
+    def add_leaf(self, name, neighbour):
+        self.tree[name] = [neighbour]
+        self.tree[neighbour] = sorted(self.tree[neighbour] + [name])
+        self.arrows[name] = neighbour
+        self.logs[name] = []
+        self.requests[name] = []
+
+    def settle(self):
+        count = 0
+        while self.messages:
+            self.deliver(*sorted(self.messages)[0][:2])
+            count += 1
+        return count
+
+    def pending(self):
+        return sorted(self.messages)
+
+    def aheads(self):
+        """A dict from each request to the one directly ahead, or None."""
+        ahead = {behind: front for front, behind in self.pairs}
+        return {request: ahead.get(request) for node in self.requests for request in self.requests[node]}
+
+    def segments(self):
+        behind = dict(self.pairs)
+        found = []
+        for request, front in self.aheads().items():
+            if front is None:
+                segment = [request]
+                while segment[-1] in behind:
+                    segment.append(behind[segment[-1]])
+                found.append(segment)
+        return sorted(found, key=lambda segment: (segment[0] != (self.holder, 0), segment))
+
+    def line(self):
+        """The line of a settled net, None of another one."""
+        return None if self.messages else [node for node, _ in self.segments()[0]]
+
+    def state(self):
+        """All that a net tells, in the form of state_of."""
+        return [self.tree, self.arrows, self.pending(), self.logs, self.segments(), self.line(), self.aheads()]
+
+
+def state_of(net, requests=()):
+    """All that a net tells, and what is ahead of these requests."""
+    pending = net.pending()
+    line = None if pending else net.request_line()
+    return [net.current_tree(), net.arrow_map(), pending, net.local_logs(), net.segments(), line,
+            {request: net.ahead(request) for request in requests}]
+
+
+def first_of(messages, number):
+    return messages[0]
+
+
+def last_of(messages, number):
+    return messages[-1]
+
+
+def any_of(messages, number):
+    return messages[number % len(messages)]
+
+
+def next_call(net, number, pick):
+    """The name and the arguments of a call that the slow net can carry out."""
+    kind, rest = number % 20, number // 20
+    nodes = sorted(net.tree)
+    if kind < 11 and net.messages:
+        return "deliver", pick(net.pending(), rest)[:2]
+    if kind == 19 and rest % 5 == 0:
+        return "settle", ()
+    if kind == 18 and len(nodes) < 40 and rest % 3 == 0:
+        return "add_leaf", ([name_at(k) for k in range(104) if name_at(k) not in net.tree][0], nodes[rest % len(nodes)])
+    return "ask", (nodes[rest % len(nodes)],)
+
+
+def slow_run(tree, holder, start, calls, pick=any_of):
+    """A run on a slow net: each call, its arguments, its result, and the net behind it."""
+    net = SlowNet(tree, holder)
+    for number in numbers(start, calls, 9973):
+        name, values = next_call(net, number, pick)
+        yield name, values, getattr(net, name)(*values), net
 
 
 def snapshot(value):

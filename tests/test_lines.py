@@ -6,8 +6,8 @@ from asklines import lines
 from asklines.errors import AskError, NoLine, NoNode, NoTree
 from asklines.lines import crossings, is_line, message_count, requests_of, view, views
 from samples import (
-    PromiseCase, doc_tree, filled_otherwise, nearly_trees, odd_values, path_tree, sample_lines, sample_trees, side_of,
-    snapshot, star_tree,
+    PromiseCase, doc_tree, filled_otherwise, no_nodes, no_trees, odd_values, path_tree, sample_lines, sample_trees,
+    side_of, slow_view, snapshot, star_tree,
 )
 
 DOC_LINE = ["p", "a", "g", "b", "a"]
@@ -19,24 +19,6 @@ def no_lines():
     return odd_values() + ["p", "pa", ("p",), ("p", "a"), {"p": "a"}, {"p": []}, ["x"], ["p", "x"], ["x", "p"],
                            ["p"] * 401, ["p", "a"] * 300, ("p",) * 400, ["p"] * 399 + ["x"], [["p"]], ["p", ["a"]],
                            ["p", None], ["p", 0], ["p", b"a"], ["p", {}], ["p", ("a",)], ["p", "A"], ["p", ""]]
-
-
-def no_trees():
-    return odd_values() + ["p", ["p"]] + [value for _, value in nearly_trees()]
-
-
-def slow_direction(tree, node, target):
-    """The direction by what is cut off when an edge is taken away."""
-    for neighbour in tree[node]:
-        if target in side_of(tree, neighbour, node):
-            return neighbour
-    return node
-
-
-def slow_view(tree, line, node):
-    towards = {other: slow_direction(tree, node, other) for other in tree}
-    steps = [towards[entry] for entry in line]
-    return [step for before, step in zip(steps, steps[1:]) if step == node or step != before]
 
 
 def slow_crossings(tree, line):
@@ -160,7 +142,7 @@ class Views(PromiseCase):
             self.same_however_filled(view, tree, line, min(tree))
 
     def test_no_node(self):
-        for value in odd_values() + ["x", "pp", ["p"], ("a", "p"), doc_tree()]:
+        for value in no_nodes():
             with self.subTest(value=value):
                 self.fails(NoNode, view, doc_tree(), DOC_LINE, value)
 

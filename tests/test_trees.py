@@ -6,18 +6,9 @@ from asklines import trees
 from asklines.errors import AskError, NoName, NoNode, NoTree, Taken, TooMany
 from asklines.trees import direction, edges_of, is_name, is_tree, path_between, with_leaf
 from samples import (
-    LETTERS, PromiseCase, doc_tree, name_at, nearly_trees, odd_values, path_tree, sample_trees, side_of, snapshot,
-    star_tree,
+    LETTERS, PromiseCase, doc_tree, name_at, nearly_trees, no_nodes, no_trees, odd_values, path_tree, sample_trees,
+    side_of, snapshot, star_tree,
 )
-
-
-def no_trees():
-    return odd_values() + ["a", ["a"], ["a", "p"]] + [value for _, value in nearly_trees()]
-
-
-def no_nodes():
-    """Values that are no nodes of any sample tree, the name of no node among them."""
-    return odd_values() + ["x", "qqqqqqqq", ["a"], ["p"], doc_tree()]
 
 
 class Interface(unittest.TestCase):
