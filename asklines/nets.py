@@ -68,6 +68,10 @@ class Net:
             count += 1
         return count
 
+    def holder(self):
+        """Return the node at which the line begins."""
+        return self._holder
+
     def current_tree(self):
         """Return the tree, with the leaves that joined."""
         return {node: list(self._tree[node]) for node in sorted(self._tree)}

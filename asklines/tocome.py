@@ -13,6 +13,11 @@ MOST_MESSAGES = 6
 def blocker(tree, holder, logs, line):
     """Return the least node whose log does not fit the line, or None if the line can still come."""
     check_no_clash(tree, holder, logs)
+    return blocker_by(tree, holder, logs, line)
+
+
+def blocker_by(tree, holder, logs, line):
+    """Return what blocker does, for the logs of some net, which may be longer than proper logs."""
     if not is_line(tree, line) or line[0] != holder:
         raise NoLine("not a line of the tree that begins with the holder")
     seen = views(tree, line)

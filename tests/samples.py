@@ -1,7 +1,9 @@
 """Samples and checks that several test files use."""
 
+import re
 import unittest
 
+NAME = "[a-z]{1,8}"
 LETTERS = "abcdefghijklmnopqrstuvwxyz"
 
 
@@ -327,6 +329,95 @@ def slow_run(tree, holder, start, calls, pick=any_of):
     for number in numbers(start, calls, 9973):
         name, values = next_call(net, number, pick)
         yield name, values, getattr(net, name)(*values), net
+
+
+def asked(tree, holder, nodes):
+    """A slow net in which these nodes asked, one after the other, and nothing arrived."""
+    net = SlowNet(tree, holder)
+    for node in nodes:
+        net.ask(node)
+    return net
+
+
+def slow_lines_to_come(net):
+    """All lines to which some order of deliveries leads, by a search through all of them."""
+    seen, lines, waiting = set(), set(), [net.copied()]
+    while waiting:
+        now = waiting.pop()
+        key = tuple(tuple(now.logs[node]) for node in sorted(now.tree))
+        if key in seen:
+            continue
+        seen.add(key)
+        if not now.messages:
+            lines.add(tuple(now.line()))
+        for sender, receiver, _ in now.messages:
+            waiting.append(now.copied())
+            waiting[-1].deliver(sender, receiver)
+    return sorted(list(line) for line in lines)
+
+
+def slow_blocker(tree, logs, line):
+    """The least node that does not fit, by point 22."""
+    wrong = []
+    for node in tree:
+        seen = slow_view(tree, line, node)
+        if seen[:len(logs[node])] != logs[node] or seen.count(node) != logs[node].count(node):
+            wrong.append(node)
+    return min(wrong, default=None)
+
+
+def slow_tree_text(tree):
+    """The text of a tree, from its edges as sets of two nodes."""
+    edges = {frozenset((node, other)) for node in tree for other in tree[node]}
+    return " ".join("-".join(edge) for edge in sorted(map(sorted, edges))) or min(tree)
+
+
+def slow_tree_of(text):
+    """The tree with a text, or None, sentence by sentence of points 6 and 25."""
+    if re.fullmatch(NAME, text):
+        return {text: []}
+    if not re.fullmatch(f"{NAME}-{NAME}( {NAME}-{NAME})*", text):
+        return None
+    edges = [tuple(word.split("-")) for word in text.split(" ")]
+    nodes = sorted({node for edge in edges for node in edge})
+    if edges != sorted(set(edges)) or any(x >= y for x, y in edges) or not len(nodes) == len(edges) + 1 <= 40:
+        return None
+    tree = {node: [x if y == node else y for x, y in edges if node in (x, y)] for node in nodes}
+    found = nodes[:1]
+    for node in found:
+        found += [other for other in tree[node] if other not in found]
+    return {node: sorted(tree[node]) for node in nodes} if len(found) == len(nodes) else None
+
+
+def edits_of_signs(text, signs):
+    """The text with one character less, more or another, at each place."""
+    for at in range(len(text) + 1):
+        for sign in signs:
+            yield text[:at] + sign + text[at:]
+    for at in range(len(text)):
+        yield text[:at] + text[at + 1:]
+        for sign in signs:
+            yield text[:at] + sign + text[at + 1:]
+
+
+def edits_of_words(text, sign):
+    """The text with words removed, doubled, moved, exchanged or turned around, and with spaces more."""
+    words = text.split(sign)
+    yield sign.join(words[::-1])
+    for at in range(len(words)):
+        yield sign.join(words[:at] + words[at + 1:])
+        yield sign.join(words[:at] + [words[at]] * 2 + words[at + 1:])
+        yield sign.join(words[:at] + words[at + 1:] + [words[at]])
+        yield sign.join([words[at]] + words[:at] + words[at + 1:])
+        yield sign.join(words[:at] + [words[at], "", *words[at + 1:]])
+        yield sign.join(words[:at] + [words[at][::-1]] + words[at + 1:])
+        yield sign.join(words[:at] + [words[at].upper()] + words[at + 1:])
+        yield sign.join(words[:at])
+        yield sign.join(words[at:])
+        yield sign.join(words[:at] + words[at + 1:at + 2] + [words[at]] + words[at + 2:])
+    for more in (sign, " ", "\n", "\t", "\r", "\x00"):
+        yield more + text
+        yield text + more
 
 
 def snapshot(value):

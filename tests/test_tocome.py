@@ -9,9 +9,9 @@ from asklines.lines import views
 from asklines.nets import Net
 from asklines.tocome import blocker, deliveries, lines_to_come
 from samples import (
-    PromiseCase, SlowNet, any_of, doc_tree, filled_otherwise, first_of, irregular_tree, last_of, name_at, nested,
-    no_nodes, no_trees, numbers, odd_values, path_tree, sample_trees, slow_run, slow_view, snapshot, spoil, star_tree,
-    tree_of,
+    PromiseCase, SlowNet, any_of, asked, doc_tree, filled_otherwise, first_of, irregular_tree, last_of, name_at, nested,
+    no_nodes, no_trees, numbers, odd_values, path_tree, sample_trees, slow_blocker, slow_lines_to_come, slow_run,
+    slow_view, snapshot, spoil, star_tree, tree_of,
 )
 
 OF_LINE = (blocker, deliveries)
@@ -42,33 +42,6 @@ def no_lines():
         ["g"] * 400, ["p"] * 401, ["p", "a"] * 300, ["p", None], ["p", ["a"]], ["p", "A"], [["p"]],
         ["a", "p", "b", "g"], doc_start(), doc_tree(), nested("p", 20),
     ]
-
-
-def slow_lines_to_come(net):
-    """All lines to which some order of deliveries leads, by a search through all of them."""
-    seen, lines, waiting = set(), set(), [net.copied()]
-    while waiting:
-        now = waiting.pop()
-        key = tuple(tuple(now.logs[node]) for node in sorted(now.tree))
-        if key in seen:
-            continue
-        seen.add(key)
-        if not now.messages:
-            lines.add(tuple(now.line()))
-        for sender, receiver, _ in now.messages:
-            waiting.append(now.copied())
-            waiting[-1].deliver(sender, receiver)
-    return sorted(list(line) for line in lines)
-
-
-def slow_blocker(tree, logs, line):
-    """The least node that does not fit, by point 22."""
-    wrong = []
-    for node in tree:
-        seen = slow_view(tree, line, node)
-        if seen[:len(logs[node])] != logs[node] or seen.count(node) != logs[node].count(node):
-            wrong.append(node)
-    return min(wrong, default=None)
 
 
 def slow_deliveries(net, line):
@@ -109,14 +82,6 @@ def small_nets():
             for k, (name, _, _, net) in enumerate(slow_run(tree, max(tree), at + 50, 60, pick)):
                 if name == "ask" and k % 4 == 0 and len(net.messages) <= 6:
                     yield net
-
-
-def asked(tree, holder, nodes):
-    """A slow net in which these nodes asked, one after the other, and nothing arrived."""
-    net = SlowNet(tree, holder)
-    for node in nodes:
-        net.ask(node)
-    return net
 
 
 class ToComeCase(PromiseCase):
